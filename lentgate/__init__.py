@@ -1,0 +1,1 @@
+"""Lentgate: many houses behind one gate, and numbers lent for their letters."""
