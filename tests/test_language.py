@@ -15,6 +15,12 @@ OWN_NAMES = set("""
     ZeroDivisionError ArithmeticError OverflowError RuntimeError NotImplementedError AttributeError StopIteration
 """.split())
 OWN_METHODS = {"__init__", "__eq__", "__repr__", "__str__", "__len__"}
+# Those of Python's own that the rules allow and that do not only concern bytes.
+FREE_METHODS = set("""
+    append clear copy count endswith extend find get index insert isalnum isalpha isdigit islower isspace isupper
+    items join keys ljust lower lstrip partition pop remove replace reverse rfind rjust rpartition rsplit rstrip
+    setdefault split splitlines startswith strip update upper values zfill bit_length
+""".split())
 WORDS_OUT = re.compile(
     r"\b(type|typing|typing_extensions|enum|Enum|IntEnum|StrEnum|Flag|IntFlag|Generic|Protocol|ABC|ABCMeta"
     r"|namedtuple|NamedTuple|TypedDict|TYPE_CHECKING|abstractmethod)\b|dataclass|overload|contextmanager")
@@ -128,6 +134,31 @@ class Language(unittest.TestCase):
                 elif isinstance(node, (ast.FunctionDef, ast.ClassDef)):
                     bound.append(node.name)
             self.assertEqual(sorted(bound), sorted(set(bound)), path)
+
+    def test_methods_and_values_of_objects(self):
+        methods, values, asked = set(), set(), set()
+        for path in files():
+            for node in nodes(path):
+                if isinstance(node, ast.ClassDef):
+                    own = [row.name for row in node.body if isinstance(row, ast.FunctionDef)]
+                    self.assertEqual(sorted(own), sorted(set(own)), path)
+                    methods |= set(own) - OWN_METHODS
+                if isinstance(node, ast.Attribute):
+                    (asked if isinstance(node.ctx, ast.Load) else values).add(node.attr)
+        self.assertEqual(methods & values, set())
+        self.assertEqual(asked - values - methods - FREE_METHODS, set())
+        taken = {name for kind in (str, int, list, dict, set, bytes, tuple) for name in dir(kind)}
+        self.assertEqual((methods | values) & taken, set())
+
+    def test_no_two_files_draw_from_one_another(self):
+        draws = {}
+        for path in files():
+            rows = [node for node in nodes(path) if isinstance(node, ast.ImportFrom)]
+            draws[f"lentgate.{path.stem}"] = {row.module for row in rows}
+        while draws:
+            leaves = {name for name in draws if not draws[name] & set(draws)}
+            self.assertTrue(leaves, draws)
+            draws = {name: drawn for name, drawn in draws.items() if name not in leaves}
 
 
 if __name__ == "__main__":

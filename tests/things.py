@@ -46,3 +46,27 @@ def anything(source, depth=6):
         return "".join([chr(source.choice([10] + list(range(32, 127)))) for _ in range(source.randrange(50))])
     inner = [anything(source, depth - 1) for _ in range(source.randrange(9))]
     return inner if sort == 7 else tuple(inner)
+
+
+FORM_PARTS = {
+    "low": 100, "high": 103, "lending": "talk", "sieve": "talk", "pick": "next", "most": 4, "renew": False,
+    "times": (10, 5, 20, 7),
+}
+
+
+def form_of(**parts):
+    """A form, with parts otherwise than FORM_PARTS has them."""
+    assert set(parts) <= set(FORM_PARTS), parts
+    return tuple({**FORM_PARTS, **parts}.values())
+
+
+LOOKS = ("moment", "free", "lends", "talks", "rests", "rules", "book")
+
+
+def looks(gate):
+    """All that a gate tells of itself."""
+    return {name: getattr(gate, name)() for name in LOOKS}
+
+
+def without_book(gate):
+    return {name: told for name, told in looks(gate).items() if name != "book"}
