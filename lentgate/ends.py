@@ -123,13 +123,17 @@ DEEDS = {
 }
 
 
+def name_of(thing):
+    """The text with which a tuple begins; None of all else, of anything."""
+    if not isinstance(thing, tuple) or len(thing) == 0 or not isinstance(thing[0], str):
+        return None
+    return thing[0]
+
+
 def is_deed(thing):
     """Tell True or False, of anything."""
-    if not isinstance(thing, tuple) or len(thing) == 0:
-        return False
-    name = thing[0]
-    # Only a text is looked for in the dict: a list could not be asked of it.
-    if not isinstance(name, str) or name not in DEEDS:
+    name = name_of(thing)
+    if name not in DEEDS:
         return False
     has_parts = DEEDS[name]
     return has_parts(thing[1:])

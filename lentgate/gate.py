@@ -21,6 +21,8 @@ class Gate:
         self.table = Talks(form)
         self.strangers = Rules()
         self.done = []
+        # A number to be picked where it is free: so a book of another gate can be gone through.
+        self.wish = None
 
     def deed(self, deed):
         """Do a deed and give back its answer."""
@@ -108,12 +110,18 @@ class Gate:
         if number is None:
             if self.table.many_held(inner[1]) >= self.form[5]:
                 return ("kept", "most")
-            number = self.table.pool.picked(self.form[4], inner[2], self.table.now)
+            number = self.picked_for(inner[2])
             if number is None:
                 return ("kept", "full")
             self.table.lend(number, inner)
         self.table.begin(inner, number, state)
         return ("led", number)
+
+    def picked_for(self, door):
+        pool, now = self.table.pool, self.table.now
+        if self.wish is not None and pool.is_free(self.wish, now):
+            return self.wish
+        return pool.picked(self.form[4], door, now)
 
     def come_in(self, kind, place, far, number, word):
         talk = self.table.of_outer(kind, number, place, far)

@@ -43,6 +43,10 @@ class Talks:
     def living(self):
         return list(self.by_inner.values())
 
+    def is_living(self, talk):
+        """Whether it is this very talk that lives, not one that began anew by the same ends."""
+        return self.by_inner.get(talk.inner) == talk
+
     def number_of(self, inner):
         """The number that is lent to the holder of this inner end, or None."""
         return self.numbers.get(holder_of(self.form, inner))
