@@ -108,7 +108,7 @@ class Gate:
     def begin_out(self, inner, state):
         number = self.table.number_of(inner)
         if number is None:
-            if self.table.many_held(inner[1]) >= self.form[5]:
+            if len(self.table.held(inner[1])) >= self.form[5]:
                 return ("kept", "most")
             number = self.picked_for(inner[2])
             if number is None:

@@ -55,8 +55,13 @@ class Talks:
         """The holder to whom this number is lent, or None."""
         return self.holders.get(number)
 
-    def many_held(self, house):
-        return len([holder for holder in self.holders.values() if holder[1] == house])
+    def held(self, house):
+        """The numbers that are lent to this house."""
+        return [number for number, holder in self.holders.items() if holder[1] == house]
+
+    def lent_until(self, number):
+        """The moment at which the lend of this number ends, if no letter comes."""
+        return max([talk.over for talk in self.by_number[number].values()])
 
     def lend(self, number, inner):
         holder = holder_of(self.form, inner)

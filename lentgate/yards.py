@@ -44,12 +44,12 @@ class Yard:
         if not is_yard_deed(deed, len(self.courts)):
             raise NoDeed("this is no deed of this yard")
         if deed[0] == "out":
-            return self.sent(deed[1], deed[2:])
+            return self.write_out(deed[1], deed[2:])
         if deed[0] == "come":
-            return self.come_in(deed)
+            return self.lead_on(deed)
         if deed[0] == "lost":
-            return self.told_lost(deed)
-        return self.pass_by(deed)
+            return self.tell_on(deed)
+        return self.go_by(deed)
 
     def moment(self):
         return self.front.moment()
@@ -72,7 +72,7 @@ class Yard:
                     rows.append((kind, court, house, door, place, far, talk.number, outers[behind]))
         return sorted(rows)
 
-    def sent(self, court, parts):
+    def write_out(self, court, parts):
         answer = self.courts[court].deed(("out",) + parts)
         if answer[0] != "led":
             return answer
@@ -83,7 +83,7 @@ class Yard:
             return ("stopped", number, further[1])
         return ("led", number, further[1])
 
-    def come_in(self, deed):
+    def lead_on(self, deed):
         answer = self.front.deed(deed)
         if answer[0] == "kept":
             return answer
@@ -91,7 +91,7 @@ class Yard:
         name, kind, place, far, outer, word, text = deed
         return court_answer(court, self.courts[court].come(kind, place, far, number, word, text))
 
-    def told_lost(self, deed):
+    def tell_on(self, deed):
         answer = self.front.deed(deed)
         if answer[0] == "kept":
             return answer
@@ -99,7 +99,7 @@ class Yard:
         name, teller, kind, outer, place, far = deed
         return court_answer(court, self.courts[court].lost(teller, kind, number, place, far))
 
-    def pass_by(self, deed):
+    def go_by(self, deed):
         self.front.deed(deed)
         for gate in self.courts:
             gate.deed(deed)
