@@ -6,7 +6,6 @@ import unittest
 
 from lentgate.errors import NoForm, NoPlan
 from lentgate.forms import is_form
-from lentgate.gate import Gate
 from lentgate.looker import looked
 from lentgate.plans import is_plan, need, planned
 from test_model import Model, some_form
@@ -427,11 +426,12 @@ class Need(unittest.TestCase):
 
     def reckoned(self, form, plan):
         greatest = 0
-        gate = Gate(form)
-        for deed, answer in planned(form, plan):
+        model = Model(form)
+        for deed, answer in model_planned(form, plan):
             for tick in [("wait", 1)] * deed[1] if deed[0] == "wait" else [deed]:
-                self.assertIn(gate.deed(tick), (answer, None))
-                greatest = max(greatest, len(gate.lends()) + len(gate.rests()))
+                self.assertEqual(model.deed(tick), answer)
+                used = {talk["number"] for talk in model.all_talks if model.now < model.end_of(talk) + form[7][3]}
+                greatest = max(greatest, len(used))
         return greatest
 
 
